@@ -1,0 +1,1 @@
+"""Ringbeat: a net of goings that come again for ever."""
