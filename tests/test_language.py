@@ -25,6 +25,12 @@ NEVER_WORDS = re.compile(
 NEVER_NAMES = """register mro elements open input version_info with_traceback add_note attrgetter breakpoint builtins
 compile copyright credits delattr dir eval exec exit gc getattr globals hasattr help id importlib license locals
 methodcaller os quit setattr super vars sys chr format format_map""".split()
+COPIES = ("list", "tuple", "dict", "sorted")
+CHANGES = "append clear extend insert pop remove reverse setdefault update".split()
+KEYWORDS = {
+    "sorted": ("key", "reverse"), "min": ("key", "default"), "max": ("key", "default"),
+    "sum": ("start",), "enumerate": ("start",), "zip": ("strict",),
+}
 STATEMENTS = (
     ast.FunctionDef, ast.ClassDef, ast.ImportFrom, ast.Assign, ast.AugAssign, ast.If, ast.While, ast.For,
     ast.Return, ast.Break, ast.Continue, ast.Pass, ast.Raise, ast.Try, ast.Expr,
@@ -62,6 +68,7 @@ def top_faults(tree):
         elif isinstance(node, (ast.FunctionDef, ast.ClassDef)):
             bound.append(node.name)
         elif isinstance(node, ast.Assign):
+            yield from plain_value_faults(node.value, bound)
             bound += [target.id for target in node.targets if isinstance(target, ast.Name)]
         else:
             yield ("L3", node.lineno, "not for the top of a file")
@@ -72,6 +79,122 @@ def top_faults(tree):
     for node in inner:
         if isinstance(node, (ast.ImportFrom, ast.ClassDef)):
             yield ("L2", node.lineno, "only at the top of a file")
+
+
+def plain_value_faults(node, defined, inner=False):
+    """L3 and L15: what a name of a file's top may be given."""
+    if isinstance(node, ast.Constant) or (isinstance(node, ast.Name) and node.id in defined and inner):
+        return
+    if isinstance(node, ast.Dict) and not inner:
+        values = node.keys + node.values
+    elif isinstance(node, ast.Tuple) or (isinstance(node, ast.List) and not inner):
+        values = node.elts
+    else:
+        yield ("L3", node.lineno, "not a plain value")
+        return
+    for value in values:
+        yield from plain_value_faults(value, defined, True)
+
+
+def local_faults(tree):
+    """L15: a parameter or a local that is called like a class or an import of its file."""
+    taken = [node.name for node in tree.body if isinstance(node, ast.ClassDef)]
+    for node in tree.body:
+        if isinstance(node, ast.ImportFrom):
+            taken += [name.name for name in node.names]
+    for top in tree.body:
+        if isinstance(top, (ast.FunctionDef, ast.ClassDef)):
+            for node in ast.walk(top):
+                stored = isinstance(node, ast.Name) and isinstance(node.ctx, ast.Store) and node.id in taken
+                if stored or (isinstance(node, ast.arg) and node.arg in taken):
+                    yield ("L15", node.lineno, "called like a class or an import")
+
+
+def kept_faults(tree, parents):
+    """L15: lists and dicts of a file's top are only read."""
+    kept = []
+    for node in tree.body:
+        if isinstance(node, ast.Assign) and isinstance(node.value, (ast.List, ast.Dict)):
+            kept += [target.id for target in node.targets]
+    for node in ast.walk(tree):
+        if isinstance(node, ast.Name) and isinstance(node.ctx, ast.Load) and node.id in kept:
+            above = parents[node]
+            read = isinstance(above, (ast.Compare, ast.For, ast.comprehension))
+            read = read or (isinstance(above, ast.Subscript) and isinstance(above.ctx, ast.Load))
+            read = read or (isinstance(above, ast.Attribute) and above.attr in ("get", "index", "count"))
+            read = read or (isinstance(above, ast.Call) and ast.unparse(above.func) in COPIES + ("len",))
+            if not read:
+                yield ("L15", node.lineno, node.id + " is more than read")
+
+
+def calls_one_of(node, names):
+    return isinstance(node, ast.Call) and isinstance(node.func, ast.Name) and node.func.id in names
+
+
+def is_view(node):
+    if isinstance(node, ast.Call) and isinstance(node.func, ast.Attribute):
+        return node.func.attr in ("items", "keys", "values")
+    return calls_one_of(node, ("zip", "enumerate", "reversed", "range"))
+
+
+def is_walked(node, above):
+    if isinstance(above, (ast.For, ast.comprehension)):
+        return above.iter is node
+    if calls_one_of(above, ("min", "max")):
+        return above.args == [node]
+    if isinstance(above, ast.Call) and isinstance(above.func, ast.Attribute):
+        return above.func.attr == "join" and isinstance(above.func.value, ast.Constant)
+    if calls_one_of(above, ("enumerate", "zip")):
+        return True
+    return calls_one_of(above, COPIES + ("sum", "any", "all")) and above.args[0] is node
+
+
+def is_set_in_place(node, above, parents):
+    while isinstance(above, ast.BinOp):
+        node, above = above, parents[above]
+    if calls_one_of(above, ("sorted", "len")):
+        return not above.keywords
+    return isinstance(above, ast.Compare)
+
+
+def walk_faults(tree, parents):
+    for node in ast.walk(tree):
+        if is_view(node) and not is_walked(node, parents[node]):
+            yield ("L23", node.lineno, "not walked on the spot")
+        if calls_one_of(node, ("set", "frozenset")) and not is_set_in_place(node, parents[node], parents):
+            yield ("L24", node.lineno, "a set that is kept or walked")
+        if isinstance(node, ast.For):
+            yield from changed_faults(node)
+
+
+def changed_faults(loop):
+    """L23: what a loop walks is not changed in it."""
+    walked = [ast.unparse(loop.iter)]
+    if is_view(loop.iter):
+        walked = [ast.unparse(part) for part in loop.iter.args]
+        if isinstance(loop.iter.func, ast.Attribute):
+            walked.append(ast.unparse(loop.iter.func.value))
+    for node in [node for part in loop.body for node in ast.walk(part)]:
+        stored = isinstance(node, ast.Subscript) and isinstance(node.ctx, ast.Store)
+        called = isinstance(node, ast.Attribute) and node.attr in CHANGES
+        if (stored or called) and ast.unparse(node.value) in walked:
+            yield ("L23", node.lineno, "changed while it is walked")
+
+
+def keyword_faults(node):
+    """L22: the keywords that Python's own names and error classes take."""
+    if not isinstance(node, ast.Call) or not isinstance(node.func, ast.Name) or not hasattr(builtins, node.func.id):
+        return
+    for keyword in node.keywords:
+        if keyword.arg not in KEYWORDS.get(node.func.id, ()):
+            yield ("L22", node.lineno, "a keyword at one of Python's own names")
+
+
+def power_faults(node):
+    if isinstance(node, (ast.BinOp, ast.AugAssign)) and isinstance(node.op, ast.Pow):
+        written = node.right if isinstance(node, ast.BinOp) else node.value
+        if not isinstance(written, ast.Constant) or not 0 <= written.value <= 64:
+            yield ("L27", node.lineno, "an exponent that isn't written out")
 
 
 def import_faults(node):
@@ -109,8 +232,9 @@ def statement_faults(node):
         yield ("L6", node.lineno, "else behind a loop")
     if isinstance(node, ast.Try) and node.finalbody:
         yield ("L6", node.lineno, "finally")
-    if isinstance(node, ast.Assign) and len(node.targets) > 1:
-        yield ("L6", node.lineno, "several targets")
+    if isinstance(node, ast.Assign):
+        if len(node.targets) > 1 or isinstance(node.targets[0], (ast.Tuple, ast.List)):
+            yield ("L6", node.lineno, "several targets")
     if isinstance(node, ast.ExceptHandler):
         if node.type is None or ast.unparse(node.type) in ("Exception", "TypeError"):
             yield ("L19", node.lineno, "too wide a handler")
@@ -170,9 +294,11 @@ def kind_faults(node):
 
 def file_faults(source):
     tree = ast.parse(source)
-    found = list(form_faults(source)) + list(top_faults(tree))
+    parents = {part: node for node in ast.walk(tree) for part in ast.iter_child_nodes(node)}
+    found = list(form_faults(source)) + list(top_faults(tree)) + list(local_faults(tree))
+    found += list(kept_faults(tree, parents)) + list(walk_faults(tree, parents))
     for node in ast.walk(tree):
-        for faults in (kind_faults, statement_faults, value_faults, name_faults):
+        for faults in (kind_faults, statement_faults, value_faults, name_faults, keyword_faults, power_faults):
             found += list(faults(node))
         if isinstance(node, ast.Expr) and not isinstance(node.value, ast.Call) and node is not tree.body[0]:
             found.append(("L6", node.lineno, "a value by itself"))
@@ -201,6 +327,25 @@ def package_faults(sources):
     return found
 
 
+def drawing_faults(sources):
+    """L16, of a dict from the files' names to their texts: each name from where it is defined, and no circles."""
+    trees = {name: ast.parse(source) for name, source in sources.items()}
+    drawn = {name: [node for node in tree.body if isinstance(node, ast.ImportFrom)] for name, tree in trees.items()}
+    files = {name: [node.module.split(".")[-1] for node in nodes] for name, nodes in drawn.items()}
+    for name, nodes in drawn.items():
+        for node, file in zip(nodes, files[name]):
+            defined = [top.name for top in trees[file].body if isinstance(top, (ast.FunctionDef, ast.ClassDef))]
+            for part in node.names:
+                if part.name not in defined:
+                    yield ("L16", node.lineno, part.name + " is not defined in " + file)
+    reached = dict(files)
+    for step in files:
+        reached = {name: sorted({far for near in files[name] for far in [near] + reached[near]}) for name in files}
+    for name in files:
+        if name in reached[name]:
+            yield ("L16", 1, name + " draws from itself")
+
+
 class Package(unittest.TestCase):
     def setUp(self):
         self.files = sorted(path for path in PACKAGE.rglob("*") if "__pycache__" not in path.parts)
@@ -219,7 +364,9 @@ class Package(unittest.TestCase):
                 self.assertEqual(file_faults(path.read_text(encoding="utf-8")), [])
 
     def test_all_files_together(self):
-        self.assertEqual(package_faults([path.read_text(encoding="utf-8") for path in self.files]), [])
+        sources = {path.stem: path.read_text(encoding="utf-8") for path in self.files}
+        self.assertEqual(package_faults(sources.values()), [])
+        self.assertEqual(list(drawing_faults(sources)), [])
 
 
 class Finding(unittest.TestCase):
@@ -254,7 +401,33 @@ class Finding(unittest.TestCase):
         ("L19", "def f(x):\n    try:\n        f(x)\n    except Exception:\n        pass\n"),
         ("L20", "def f(x, y):\n    return x is y\n"),
         ("L27", "A = \"5%\"\n"),
+        ("L3", "A = 10 ** 9\n"),
+        ("L3", "A = [[1], [2]]\n"),
+        ("L3", "A = {\"a\": f}\n\n\ndef f():\n    pass\n"),
+        ("L6", "def f(x):\n    a, b = x\n"),
+        ("L15", "from ringbeat.late import late\n\n\ndef f(late):\n    return late\n"),
+        ("L15", "from ringbeat.late import late\n\n\ndef f(x):\n    late = x\n"),
+        ("L15", "A = [1]\n\n\ndef f():\n    return A\n"),
+        ("L15", "A = [1]\n\n\ndef f():\n    A.append(2)\n"),
+        ("L22", "def f(x):\n    return str(object=x)\n"),
+        ("L22", "def f(x):\n    raise ValueError(x=x)\n"),
+        ("L23", "def f(xs):\n    ys = reversed(xs)\n    return list(ys)\n"),
+        ("L23", "def f(x):\n    return x.items()\n"),
+        ("L23", "def f(xs):\n    for x in xs:\n        xs.append(x)\n"),
+        ("L23", "def f(xs):\n    for k, x in enumerate(xs):\n        xs[k] = 0\n"),
+        ("L24", "def f(xs):\n    ys = set(xs)\n    return len(ys)\n"),
+        ("L27", "def f(n):\n    return 2 ** n\n"),
     )
+    GOOD = (
+        "def f():\n    pass\n\n\nA = {\"a\": f, \"b\": (1, (2, None))}\n\n\ndef g(x):\n    return A[x]() in A\n",
+        "def f(xs):\n    for k, x in enumerate(reversed(xs)):\n        f(x)\n    return sorted(set(xs) - set([1]))\n",
+        "def f(xs, d):\n    return max(range(3)) + sum([x for x in d.values()], start=2) + 10 ** 9\n",
+    )
+
+    def test_what_is_no_fault_is_let_by(self):
+        for source in self.GOOD:
+            with self.subTest(source=source):
+                self.assertEqual(file_faults(source), [])
 
     def test_faults_are_found(self):
         for rule, source in self.BAD:
@@ -266,6 +439,8 @@ class Finding(unittest.TestCase):
         both = ["class A:\n    def ring(self):\n        pass\n", "def f(x):\n    x.ring = 1\n"]
         self.assertEqual([fault[0] for fault in package_faults(both)], ["L18"])
         self.assertEqual([fault[0] for fault in package_faults(["def f(x):\n    x.sort()\n"])], ["L25"])
+        circle = {"a": "from ringbeat.b import g\n", "b": "from ringbeat.a import f\n\n\ndef g():\n    f()\n"}
+        self.assertEqual([fault[0] for fault in drawing_faults(circle)], ["L16"] * 3)
 
 
 if __name__ == "__main__":
