@@ -80,6 +80,16 @@ def ring_back_from(arrows, chosen, going):
     return list(reversed(way[seen[here]:]))
 
 
+# chosen has an arrow into each going on the way but its start, and the walk back ends there.
+def way_back(arrows, chosen, start, goal):
+    here = goal
+    way = []
+    while here != start:
+        way.append(chosen[here])
+        here = arrows[chosen[here]].start
+    return list(reversed(way))
+
+
 # Each going that isn't placed waits in its own round for another one that isn't.
 def stuck_ring(many, arrows, placed):
     chosen = {}

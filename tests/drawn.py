@@ -5,6 +5,7 @@ from random import Random
 
 from ringbeat.arrows import Back, Ride, Wait
 from ringbeat.nets import Net
+from ringbeat.tables import Table
 
 MOST_TIME = 10 ** 9
 
@@ -131,3 +132,38 @@ def is_way(net, way, start, goal):
             return False
         here = net.arrows[number].goal
     return here == goal
+
+
+def draw_table(seed, goings, arrows, beat=12, most_slack=4, kinds=(Ride, Wait, Back), scale=1):
+    """A table whose arrows have small slacks, many of them 0; all amounts are taken scale times."""
+    chance = Random(f"table {seed}")
+    times = [chance.randint(0, 2 * beat) * scale for number in range(goings)]
+    found = []
+    while len(found) < arrows:
+        start, goal = chance.randrange(goings), chance.randrange(goings)
+        behind = chance.randint(0 if (times[start], start) < (times[goal], goal) else 1, 4)
+        time = times[goal] + beat * scale * behind - times[start] - chance.choice((0, 0, chance.randint(0, most_slack)))
+        fitting = [kind for kind in kinds if kind is Wait or (kind is Ride) == (behind == 0)]
+        if time >= 0 and fitting:
+            kind = chance.choice(fitting)
+            found.append(Ride(start, goal, time) if kind is Ride else kind(start, goal, time, behind))
+    return Table(Net(names(goings), found), times, beat * scale)
+
+
+def drawn_tables(count, most_goings=5, most_arrows=8, **more):
+    for seed in range(count):
+        chance = Random(f"table size {seed}")
+        goings = chance.randint(1, most_goings)
+        yield seed, draw_table(seed, goings, chance.randint(0, most_arrows), **more)
+
+
+def draw_puts(seed, table, rounds, most=12, many=4):
+    chance = Random(f"puts {seed}")
+    return [
+        (chance.randrange(len(table.times)), chance.randrange(rounds), chance.randint(0, most))
+        for number in range(chance.randint(0, many))
+    ]
+
+
+def tight_rings(table):
+    return [ring for ring in all_rings(table.net) if all(table.slack(number) == 0 for number in ring)]
