@@ -89,7 +89,8 @@ class WhatWas(unittest.TestCase):
         self.assertEqual(run(net, 3, [[-4, None], [None, 0]]), [[-3, 2], [7, None], [8, 4]])
 
     def test_times_below_0(self):
-        self.assertEqual(run(EXAMPLE, 2, [[0, -(10 ** 14)]]), [[2 - 10 ** 14, 7 - 10 ** 14], [9 - 10 ** 14, 14 - 10 ** 14]])
+        least = -(10 ** 14)
+        self.assertEqual(run(EXAMPLE, 2, [[0, least]]), [[least + 2, least + 7], [least + 9, least + 14]])
 
     def test_more_rows_than_needed(self):
         for seed, net in drawn_nets(40):
