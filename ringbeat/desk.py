@@ -11,16 +11,8 @@ from ringbeat.papers import least_round, rate
 from ringbeat.runs import run
 from ringbeat.spare import spare
 from ringbeat.tables import Table
-from ringbeat.texts import (
-    are_numbers,
-    arrows_of_row,
-    fraction_word,
-    has_arrow_form,
-    is_number,
-    names_in_row,
-    refuse_unknown,
-    shown,
-)
+from ringbeat.texts import are_numbers, arrows_of_row, fraction_word, has_arrow_form
+from ringbeat.texts import is_number, names_in_row, refuse_unknown, shown
 
 # What stands behind a row's first word: None for a name, for a number the least and the most that it may be. Where
 # the net has the say over a number, the most is the greatest one that can be written.

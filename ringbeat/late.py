@@ -47,10 +47,11 @@ def tight_ring(table, going):
     chosen = {}
     done = 0
     while done < len(reached):
-        for number in [step for step in tight if net.arrows[step].start == reached[done]]:
+        here = reached[done]
+        for number in [step for step in tight if net.arrows[step].start == here]:
             goal = net.arrows[number].goal
             if goal == going:
-                return way_back(net.arrows, chosen, going, reached[done]) + [number]
+                return way_back(net.arrows, chosen, going, here) + [number]
             if goal not in reached:
                 reached.append(goal)
                 chosen[goal] = number

@@ -59,8 +59,9 @@ def placed_goings(many, arrows):
     placed = [going for going in range(many) if waited[going] == 0]
     done = 0
     while done < len(placed):
+        here = placed[done]
         for arrow in within:
-            if arrow.start == placed[done]:
+            if arrow.start == here:
                 waited[arrow.goal] -= 1
                 if waited[arrow.goal] == 0:
                     placed.append(arrow.goal)
@@ -127,7 +128,8 @@ def leads_to(net, going):
     found = [going]
     done = 0
     while done < len(found):
-        for number in net.into(found[done]):
+        here = found[done]
+        for number in net.into(here):
             if net.arrows[number].start not in found:
                 found.append(net.arrows[number].start)
         done += 1

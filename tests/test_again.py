@@ -127,6 +127,12 @@ class GoesOn(unittest.TestCase):
         self.check(False, 1, -1, [3, 3])
         self.check(False, 1, -40, [3, 3])
         self.check(False, 10 ** 59, 0, [3, 3])
+        still = net_of(1, [(0, 0, 0, 1)])
+        self.check(True, 1, 0, [0], [[0]] * 9, still)
+        for first in (-1, -2, -5):
+            self.check(False, 1, first, [0], [[0]] * 9, still)
+        for count in (0, -1, -5):
+            self.check(False, count, 5, [0], [[0]] * 9, still)
         self.check(False, 1, 10 ** 59, [3, 3])
 
     def test_lengths_too_few_or_too_many(self):

@@ -1,4 +1,5 @@
 import unittest
+from random import Random
 
 from drawn import MOST_TIME, draw_net, drawn_nets, great_net, names, net_of, parts
 from ringbeat.arrows import Back, Ride, Wait
@@ -109,6 +110,14 @@ class Arrows(Refusals):
                 self.check_bad(["a", "b"], [Back(0, 1, 1, behind)], 0)
         self.check_bad(["a", "b"], [Back(0, 1, 1, 0)], 0)
 
+    def test_what_is_no_whole_number(self):
+        for thing in (True, False, None, "1", 0.5, [1]):
+            with self.subTest(thing=thing):
+                self.check_bad(["a", "b"], [Back(0, 1, 1), Wait(thing, 1, 1)], 1)
+                self.check_bad(["a", "b"], [Back(0, 1, 1), Wait(0, thing, 1)], 1)
+                self.check_bad(["a", "b"], [Back(0, 1, 1), Wait(0, 1, thing)], 1)
+                self.check_bad(["a", "b"], [Back(0, 1, 1), Wait(0, 1, 1, thing)], 1)
+
     def test_a_back_of_behind_0_is_wrong_ahead_of_being_a_ring(self):
         self.check_bad(["a"], [Back(0, 0, 1, 0)], 0)
 
@@ -158,6 +167,25 @@ class Rings(Refusals):
         for behind in (1, 2, 3, 4):
             Net(["a", "b"], [Ride(0, 1, 0), Wait(1, 0, 0, behind)])
             Net(["a"], [Wait(0, 0, 0, behind)])
+
+    def test_arrows_of_other_behinds_are_none_of_the_ring(self):
+        arrows = [Ride(0, 1, 1), Ride(1, 0, 1), Back(0, 1, 1), Back(1, 0, 1), Back(0, 0, 1), Back(1, 1, 1)]
+        self.assertEqual(sorted(self.check_stuck(names(2), arrows)), [0, 1])
+        self.assertEqual(sorted(self.check_stuck(names(2), arrows[::-1])), [4, 5])
+        arrows = [Ride(0, 1, 1), Back(1, 0, 1), Ride(1, 2, 1), Ride(2, 1, 1), Back(2, 0, 1), Back(0, 2, 1)]
+        self.assertEqual(sorted(self.check_stuck(names(3), arrows)), [2, 3])
+
+    def test_drawn_of_all_behinds(self):
+        found = 0
+        for seed, net in drawn_nets(300, most_goings=6, most_arrows=16):
+            chance = Random(seed)
+            arrows = [Wait(arrow.start, arrow.goal, 1, chance.choice((0, 0, 1, 2))) for arrow in net.arrows]
+            try:
+                Net(net.names, arrows)
+            except Stuck:
+                found += 1
+                self.check_stuck(net.names, arrows)
+        self.assertTrue(50 < found < 290)
 
     def test_drawn(self):
         for seed, net in drawn_nets(150, most_goings=7, most_arrows=14):

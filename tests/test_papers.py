@@ -59,6 +59,15 @@ class LeastRound(Forms):
         net = net_of(40, ways + [(0, 2, 7, 4)])
         self.assertEqual(self.check(net)[0], (121, 156))
 
+    def test_the_means_of_long_rings_that_are_hardly_apart(self):
+        # Two rings of twenty goings each, of time 1 in all, with behinds of 80 and of 79.
+        low = [(going, (going + 1) % 20, 1 if going == 0 else 0, 4) for going in range(20)]
+        high = [(start + 20, goal + 20, time, 3 if start == 5 else 4) for start, goal, time, behind in low]
+        for ways in (low + high, high + low):
+            self.assertEqual(self.check(net_of(40, ways))[0], (1, 79))
+            turned = [((start + 20) % 40, (goal + 20) % 40, time, behind) for start, goal, time, behind in ways]
+            self.assertEqual(self.check(net_of(40, turned))[0], (1, 79))
+
     def test_drawn(self):
         for seed, net in drawn_nets(150, most_goings=5, most_arrows=9):
             means = [slow_mean(net, ring) for ring in all_rings(net)]
